@@ -1,0 +1,1 @@
+"""Solids that are built of half spaces and boxes, worked with exactly."""
