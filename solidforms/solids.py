@@ -103,19 +103,19 @@ def _fits(kind, part):
     if kind == "triple":
         return _is_triple(part)
     if kind == "turn":
-        return _lies_between(part, 0, LAST_TURN)
+        return lies_between(part, 0, LAST_TURN)
     greatest = GREATEST_FACTOR if kind == "factor" else GREATEST_NUMBER
-    return _lies_between(part, -greatest, greatest)
+    return lies_between(part, -greatest, greatest)
 
 
 def _is_triple(value):
     """Return whether the value can be a corner of a box, or a shift."""
     if not isinstance(value, tuple) or len(value) != 3:
         return False
-    return all([_lies_between(number, -GREATEST_NUMBER, GREATEST_NUMBER) for number in value])
+    return all([lies_between(number, -GREATEST_NUMBER, GREATEST_NUMBER) for number in value])
 
 
-def _lies_between(value, least, greatest):
+def lies_between(value, least, greatest):
     """Return whether the value is an integer that is not out of bounds."""
     if not isinstance(value, int) or isinstance(value, bool):
         return False

@@ -98,6 +98,67 @@ def random_solid(random, depth, few_planes=True):
     return (word, first, random_solid(random, depth - 1, few_planes))
 
 
+def packed_solid(random, most_planes, size=5):
+    """Return a solid of many faces close to 0, and of no more planes than this."""
+    while True:
+        found = packed_value(random, random.randint(0, size))
+        if len(slow_planes(found)) <= most_planes:
+            return found
+
+
+def packed_value(random, size):
+    if size == 0:
+        return packed_leaf(random)
+    word = random.choice(("both", "both", "both", "either", "either", "cut", "cut", "not", "moved", "turned"))
+    if word == "not":
+        return (word, packed_value(random, size - 1))
+    if word == "moved":
+        return (word, tuple(random.randint(-1, 1) for _ in range(3)), packed_value(random, size - 1))
+    if word == "turned":
+        return (word, random.randint(0, 47), packed_value(random, size - 1))
+    first = random.randint(0, size - 1)
+    return (word, packed_value(random, first), packed_value(random, size - 1 - first))
+
+
+def packed_leaf(random):
+    if random.random() < 0.5:
+        low = tuple(random.randint(-2, 1) for _ in range(3))
+        return ("box", low, tuple(random.randint(x + 1, 2) for x in low))
+    normal = (0, 0, 0)
+    while not any(normal):
+        normal = tuple(random.choice((-1, 0, 0, 1, 1, 2)) for _ in range(3))
+    return ("half", *normal, random.randint(-2, 2))
+
+
+def greatest_solid(random, words=("both", "either", "cut")):
+    """Return a solid of 12 planes, 12 deep, that consists of 40 solids."""
+    found = HALF
+    while len(slow_planes(found)) < 12:
+        found = greatest_chain(random, words)
+    return found
+
+
+def greatest_chain(random, words):
+    """Return 12 half spaces joined one by one, which makes 23 solids; the other 17 are put in
+    where a half space does not stand deepest."""
+    found = random_half(random)
+    more = 17
+    for place in range(11):
+        wraps = min(more, place)
+        more -= wraps
+        half = deep(wraps + 1, random_half(random))
+        pair = (found, half) if random.random() < 0.5 else (half, found)
+        found = (random.choice(words), *pair)
+    return found
+
+
+def random_half(random):
+    normal = (0, 0, 0)
+    while not any(normal):
+        normal = tuple(random.randint(-3, 3) for _ in range(3))
+    return ("half", *normal, random.randint(-9, 9))
+
+
 # ---- Planes, found by leading three points and one inside along with each half space.
 
 ENTRIES = ((0, 1, 2), (0, 2, 1), (1, 0, 2), (1, 2, 0), (2, 0, 1), (2, 1, 0))

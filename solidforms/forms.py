@@ -1,0 +1,53 @@
+"""Forms of solids, and what can be read off them; whether a solid lies round a point."""
+
+from solidforms.bodies import Body, sides_at
+from solidforms.errors import OnFace
+from solidforms.faces import form_of
+from solidforms.flats import kept_axes, sides_round, traces_in
+from solidforms.points import check_point
+from solidforms.ratios import over_one_bottom
+from solidforms.solids import check_solid
+
+
+def form(solid):
+    """Return the form of a solid: two solids have equal forms just if they are the same."""
+    check_solid(solid)
+    return form_of(solid)
+
+
+def face_planes(solid):
+    """Return the ascending tuple of the planes of the faces of a solid."""
+    faces, _ = form(solid)
+    return tuple([plane for plane, _ in faces])
+
+
+def is_blank(solid):
+    """Return whether a solid is the same as no points."""
+    return form(solid) == ((), False)
+
+
+def is_all(solid):
+    """Return whether a solid is the same as all of space."""
+    return form(solid) == ((), True)
+
+
+def inside(solid, point):
+    """Return whether a solid lies all round a point; raise OnFace if it can not be told."""
+    check_solid(solid)
+    check_point(point)
+    body = Body(solid)
+    spot = over_one_bottom(point)
+    if any([_meets_face(body, place, spot) for place in range(len(body.planes))]):
+        raise OnFace("the point lies on a face or on a border of one")
+    return body.holds(sides_at(body.planes, spot))
+
+
+def _meets_face(body, place, spot):
+    """Return whether a face in the plane with this place, or a border of one, meets a point."""
+    plane = body.planes[place]
+    a, b, c, d = plane
+    if a * spot[0] + b * spot[1] + c * spot[2] != d * spot[3]:
+        return False
+    first, second = kept_axes(plane)
+    round_it = sides_round(traces_in(plane, body.planes), (spot[first], spot[second], spot[3]))
+    return any([body.kind(place, sides) != 0 for sides in round_it])
