@@ -1,10 +1,11 @@
 """Solids that are asked by sides.
 
-The sides of a point are an integer: its bit number k is set if the point lies on the greater
-side of plane number k. All points with the same sides are alike to the solid.
+Each plane has a bit: an integer that is 1 or a power of 2. The sides of a point are the sum of the
+bits of all planes on whose greater side it lies. All points with the same sides are alike to a
+solid.
 """
 
-from solidforms.planes import plane_of
+from solidforms.planes import bits_of, plane_of
 from solidforms.solids import half_spaces, inner_solids
 
 # A box stands for this many half spaces.
@@ -12,51 +13,45 @@ BOX_HALVES = 6
 
 
 class Body:
-    """A solid, its planes, and what has been found out about sides."""
+    """A solid, the bits of its planes, and what has been found out about sides."""
 
-    def __init__(self, solid):
+    def __init__(self, solid, numbered):
         halves = half_spaces(solid)
-        self.planes = sorted({plane_of(half) for half in halves})
-        bits = {plane: 1 << place for place, plane in enumerate(self.planes)}
-        self._tree, _ = _tree_of(solid, [_leaf_of(half, bits) for half in halves], 0)
-        self._known = {}
+        planes = [plane_of(half) for half in halves]
+        self.bits = bits_of(sorted(set(planes)), numbered)
+        self.numbered = {**numbered, **self.bits}
+        leaves = [_leaf_of(half, self.bits[plane]) for half, plane in zip(halves, planes)]
+        self._tree, _ = _tree_of(solid, leaves, 0)
+        self.known = {}
 
     def holds(self, sides):
         """Return whether points with these sides lie inside."""
-        if sides not in self._known:
-            self._known[sides] = _holds(self._tree, sides)
-        return self._known[sides]
-
-    def kind(self, place, sides):
-        """Return the kind of points of the plane with this place that have these sides of the
-        other planes, its own bit not being set."""
-        lesser = self.holds(sides)
-        greater = self.holds(sides + (1 << place))
-        if greater == lesser:
-            return 0
-        return 1 if greater else 2
+        if sides not in self.known:
+            self.known[sides] = _holds(self._tree, sides)
+        return self.known[sides]
 
 
-def differing(solid, other):
-    """Return a solid, perhaps beyond the limits of one, of what is in just one of both."""
-    return ("either", ("cut", solid, other), ("cut", other, solid))
+def kind_of(lesser, greater):
+    """Return the kind of points of a plane, by whether the solid lies on its two sides there."""
+    if lesser == greater:
+        return 0
+    return 1 if greater else 2
 
 
-def sides_at(planes, point):
+def sides_at(bits, point):
     """Return the sides of a point of space; if it lies on planes, those of a point near it."""
     x, y, z, bottom = point
     found = 0
-    for place, (a, b, c, d) in enumerate(planes):
+    for (a, b, c, d), bit in bits.items():
         # A tiny step to greater x, and tinier ones to greater y and to greater z, lead from any
         # plane to its greater side, since its first factor that is not 0 is greater than 0.
         if a * x + b * y + c * z >= d * bottom:
-            found += 1 << place
+            found += bit
     return found
 
 
-def _leaf_of(half, bits):
+def _leaf_of(half, bit):
     """Return a half space as a leaf: the bits that count, and what they must be."""
-    bit = bits[plane_of(half)]
     return ("sides", bit, bit if half[:3] < (0, 0, 0) else 0)
 
 

@@ -1,7 +1,8 @@
 """Parts and holes of solids."""
 
 from solidforms.bodies import Body
-from solidforms.flats import edges_of, far_sides, traces_in
+from solidforms.flats import far_sides
+from solidforms.lines import lines_of, sides_beside
 from solidforms.solids import check_solid
 
 
@@ -19,7 +20,7 @@ def _pieces_of(solid):
     """Return a pair for each piece of space that hangs together off the faces: whether it lies
     inside the solid, and whether it goes on for ever."""
     check_solid(solid)
-    body = Body(solid)
+    body = Body(solid, {})
     neighbours, endless = _rooms_of(body)
     pieces = []
     seen = {}
@@ -37,29 +38,34 @@ def _rooms_of(body):
     goes on for ever."""
     neighbours = {}
     endless = {}
-    for place, plane in enumerate(body.planes):
-        patches = _patches_in(traces_in(plane, body.planes))
+    for plane, patches in _patches_of(body).items():
+        bit = body.bits[plane]
         for sides, goes_on in patches.items():
-            lesser, greater = sides, sides + (1 << place)
+            lesser, greater = sides, sides + bit
             for room in (lesser, greater):
                 # A room that goes on for ever has a wall that does so, too.
                 endless[room] = goes_on or endless.get(room, False)
                 neighbours.setdefault(room, [])
-            if body.kind(place, sides) == 0:
+            if body.holds(lesser) == body.holds(greater):
                 neighbours[lesser].append(greater)
                 neighbours[greater].append(lesser)
     return neighbours, endless
 
 
-def _patches_in(traces):
-    """Return a dict of the patches into which lines cut a plane, told by their sides, and whether
-    they go on for ever."""
-    found = {far_sides(traces): True}
-    for _, start, end, left, right in edges_of(traces):
-        for sides in (left, right):
-            # A patch that goes on for ever has an edge that does so, too.
-            found[sides] = start is None or end is None or found.get(sides, False)
-    return found
+def _patches_of(body):
+    """Return a dict of the patches into which lines cut each plane of a body: by the sides of
+    their points, whether they go on for ever."""
+    patches = {plane: {far_sides(plane, body.bits): True} for plane in body.bits}
+    for line in lines_of(body.bits):
+        for plane in line.through:
+            found = patches[plane]
+            for beside in sides_beside(plane, line, body.bits):
+                for sides in line.stretches:
+                    found.setdefault(sides + beside, False)
+                # A patch that goes on for ever has an edge that does so, too.
+                for sides in (line.stretches[0], line.stretches[-1]):
+                    found[sides + beside] = True
+    return patches
 
 
 def _hanging_together(room, neighbours):

@@ -2,8 +2,7 @@
 
 from solidforms.bodies import Body, sides_at
 from solidforms.errors import OnFace
-from solidforms.faces import form_of
-from solidforms.flats import kept_axes, sides_round, traces_in
+from solidforms.faces import form_of, kinds_round
 from solidforms.points import check_point
 from solidforms.ratios import over_one_bottom
 from solidforms.solids import check_solid
@@ -35,19 +34,8 @@ def inside(solid, point):
     """Return whether a solid lies all round a point; raise OnFace if it can not be told."""
     check_solid(solid)
     check_point(point)
-    body = Body(solid)
+    body = Body(solid, {})
     spot = over_one_bottom(point)
-    if any([_meets_face(body, place, spot) for place in range(len(body.planes))]):
+    if any([kind != 0 for plane in body.bits for kind in kinds_round(body, plane, spot)]):
         raise OnFace("the point lies on a face or on a border of one")
-    return body.holds(sides_at(body.planes, spot))
-
-
-def _meets_face(body, place, spot):
-    """Return whether a face in the plane with this place, or a border of one, meets a point."""
-    plane = body.planes[place]
-    a, b, c, d = plane
-    if a * spot[0] + b * spot[1] + c * spot[2] != d * spot[3]:
-        return False
-    first, second = kept_axes(plane)
-    round_it = sides_round(traces_in(plane, body.planes), (spot[first], spot[second], spot[3]))
-    return any([body.kind(place, sides) != 0 for sides in round_it])
+    return body.holds(sides_at(body.bits, spot))

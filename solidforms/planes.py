@@ -47,3 +47,26 @@ def plane_of(half):
     if (a, b, c) < (0, 0, 0):
         divisor = -divisor
     return (a // divisor, b // divisor, c // divisor, d // divisor)
+
+
+def bits_of(planes, numbered):
+    """Return a dict of planes that leads each one to a bit of its own; those that are numbered, in
+    such a dict, keep theirs."""
+    bits = {}
+    fresh = 1 << len(numbered)
+    for plane in planes:
+        if plane in numbered:
+            bits[plane] = numbered[plane]
+        else:
+            bits[plane] = fresh
+            fresh *= 2
+    return bits
+
+
+def cross(first, second):
+    """Return the cross product of two directions; what else stands behind them does not count."""
+    return (
+        first[1] * second[2] - first[2] * second[1],
+        first[2] * second[0] - first[0] * second[2],
+        first[0] * second[1] - first[1] * second[0],
+    )

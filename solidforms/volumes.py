@@ -1,9 +1,10 @@
 """Bounds and volumes of solids."""
 
-from solidforms.bodies import Body, differing
+from solidforms.bodies import Body
 from solidforms.errors import Blank, NoBounds
 from solidforms.faces import faces_of
 from solidforms.flats import kept_axes, left_out
+from solidforms.pairs import Core, Difference
 from solidforms.ratios import ascending, minus, plus, times
 from solidforms.solids import check_solid
 
@@ -15,51 +16,65 @@ WEIGHTS = (0, -1, 1)
 def is_bounded(solid):
     """Return whether a solid has bounds."""
     check_solid(solid)
-    body = Body(solid)
-    # The points with the sides 0 are far away, and if all faces have bounds, everything that is
-    # far away is alike.
-    return not body.holds(0) and all([_is_closed(picture) for _, picture in faces_of(body)])
+    return _closed_core(solid, {}) is not None
 
 
-def check_bounds(solid):
-    """Raise InvalidSolid if this is not a solid, NoBounds if it has no bounds."""
-    if not is_bounded(solid):
+def bounded_core(solid, numbered):
+    """Return the core of a solid; raise InvalidSolid if it is none, NoBounds if it has no bounds."""
+    check_solid(solid)
+    core = _closed_core(solid, numbered)
+    if core is None:
         raise NoBounds("the solid lies within no box")
+    return core
 
 
 def volume(solid):
     """Return the volume of a solid, a fraction."""
-    check_bounds(solid)
-    return _volume_of(solid)
+    return _volume_of(bounded_core(solid, {}).faces)
 
 
 def box(solid):
     """Return the least and the greatest coordinates of the faces of a solid."""
-    check_bounds(solid)
-    faces = faces_of(Body(solid))
+    faces = bounded_core(solid, {}).faces
     if not faces:
         raise Blank("a solid that is the same as no points has no faces")
+    return box_of(faces)
+
+
+def box_of(faces):
+    """Return the least and the greatest coordinates of faces that have bounds."""
     rows = [ascending(_coordinates_in(faces, axis)) for axis in range(3)]
     return (tuple([row[0] for row in rows]), tuple([row[-1] for row in rows]))
 
 
 def differing_volume(solid, other):
     """Return the volume of what is in just one of two solids."""
-    check_bounds(solid)
-    check_bounds(other)
-    return _volume_of(differing(solid, other))
+    first = bounded_core(solid, {})
+    second = bounded_core(other, first.numbered)
+    return _volume_of(faces_of(Difference(first, second)))
 
 
-def _is_closed(picture):
+def _closed_core(solid, numbered):
+    """Return the core of a solid if it has bounds, otherwise None."""
+    body = Body(solid, numbered)
+    # The points with the sides 0 are far away, and if all faces have bounds, everything that is
+    # far away is alike.
+    if body.holds(0):
+        return None
+    core = Core(body)
+    return core if all([_has_ends(picture) for _, picture in core.faces]) else None
+
+
+def _has_ends(picture):
     """Return whether no face goes on for ever in a picture."""
     base, borders = picture
     return base == 0 and all([start is not None and end is not None for _, start, end, _, _ in borders])
 
 
-def _volume_of(solid):
-    """Return the volume of a solid that has bounds, as the sum of cones from 0 to its faces."""
+def _volume_of(faces):
+    """Return the volume within faces that have bounds, as the sum of cones from 0 to them."""
     total = (0, 1)
-    for plane, (_, borders) in faces_of(Body(solid)):
+    for plane, (_, borders) in faces:
         # Areas are those of the faces as seen along the axis that is left out.
         share = (plane[3], 6 * abs(plane[left_out(plane)]))
         for border in borders:

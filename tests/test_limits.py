@@ -149,6 +149,59 @@ class TestLimits(unittest.TestCase):
             self.assertIs(self.timed(inside, solid, told_point(beside)), holds(solid, beside))
 
 
+class TestManyPlanes(unittest.TestCase):
+
+    # A common machine takes less than a tenth of this for all calls of one test.
+    SECONDS = 2
+
+    SOLID = (
+        "cut",
+        ("cut", ("either", ("box", (-2, -2, -2), (1, 1, 1)), ("half", 1, 2, -1, 1)), ("half", 2, -1, 1, 0)),
+        ("both", ("half", 1, 1, 1, 1),
+         ("both", ("half", -1, 1, 2, -1), ("both", ("half", 1, -1, 2, 2), ("half", 2, 1, 1, -1)))))
+    OTHER = (
+        "cut",
+        ("cut", ("either", ("box", (-1, -2, -1), (2, 1, 0)), ("half", 2, 2, -1, 1)), ("half", 2, -1, 2, 0)),
+        ("both", ("half", 1, 2, 1, 1),
+         ("both", ("half", -1, 2, 2, -1), ("both", ("half", 1, -1, 1, 2), ("half", 2, 1, 2, -1)))))
+    PAIR = ("either", ("box", (0, 0, 0), (1, 1, 1)), ("box", (2, 2, 2), (3, 3, 3)))
+
+    def setUp(self):
+        self.begin = time.perf_counter()
+
+    def tearDown(self):
+        self.assertLess(time.perf_counter() - self.begin, self.SECONDS)
+
+    def test_planes_that_carry_faces(self):
+        for solid, planes in (
+            (self.SOLID, (
+                (0, 0, 1, -2), (0, 0, 1, 1), (0, 1, 0, 1), (1, -1, -2, 1), (1, -1, 2, 2), (1, 0, 0, 1), (1, 2, -1, 1),
+                (2, -1, 1, 0), (2, 1, 1, -1))),
+            (self.OTHER, (
+                (0, 0, 1, -1), (0, 0, 1, 0), (0, 1, 0, 1), (1, -2, -2, 1), (1, -1, 1, 2), (1, 0, 0, 2), (2, -1, 2, 0),
+                (2, 1, 2, -1), (2, 2, -1, 1))),
+        ):
+            self.assertEqual(count_planes(solid), 12)
+            self.assertEqual(face_planes(solid), planes)
+
+    def test_likeness(self):
+        for solid, other in ((self.SOLID, self.OTHER), (self.OTHER, self.SOLID)):
+            self.assertIs(same(solid, other), False)
+            self.assertIs(is_within(solid, other), False)
+            self.assertEqual(parting(solid, other), ((-6, 1), (-19, 1), (-9, 2)))
+        less = ("cut", self.SOLID, ("half", 1, 0, 0, 1))
+        self.assertIs(is_within(less, self.SOLID), True)
+        self.assertIs(is_within(self.SOLID, less), False)
+        self.assertEqual(parting(less, self.SOLID), ((-5, 1), (-14, 1), (-11, 4)))
+
+    def test_volumes(self):
+        other = ("turned", 13, ("moved", (1, 0, -1), self.PAIR))
+        self.assertEqual(volume(self.PAIR), (2, 1))
+        self.assertEqual(differing_volume(self.PAIR, other), (4, 1))
+        self.assertEqual(differing_volume(other, self.PAIR), (4, 1))
+        self.assertEqual(differing_volume(self.PAIR, ("moved", (0, 0, 1), self.PAIR)), (4, 1))
+
+
 def greatest_chain_without_last(chance):
     found = ("half", 1, 1, 1, 0)
     for k in range(1, 10):
