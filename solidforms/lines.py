@@ -2,7 +2,7 @@
 
 from math import lcm
 
-from solidforms.flats import far_sides, is_greater_to_the_left, traces_in
+from solidforms.flats import far_sides, is_greater_to_the_left, is_line, line_form, traces_in
 from solidforms.planes import cross
 from solidforms.ratios import ratio
 
@@ -37,6 +37,11 @@ class Line:
         """Return a coordinate of the point at a mark, a fraction."""
         return ratio(self.spot[axis] * self._scale + mark * self.way[axis], self.spot[3] * self._scale)
 
+    def point(self, mark):
+        """Return the point at a mark."""
+        tops = [start * self._scale + mark * step for start, step in zip(self.spot, self.way)]
+        return (*tops, self.spot[3] * self._scale)
+
 
 def common_line(first, second, bits):
     """Return the line that two planes have in common, None if they do not cross."""
@@ -62,6 +67,17 @@ def lines_of(bits):
             if len(line.through) > 2:
                 done.update({(first, second): True for first in line.through for second in line.through})
     return found
+
+
+def lines_in(plane, bits):
+    """Return the list of all lines in which planes cut a plane, which may be one of them."""
+    found = {}
+    for other, trace in zip(bits, traces_in(plane, bits)):
+        if is_line(trace):
+            form = line_form(trace)
+            if form not in found:
+                found[form] = common_line(plane, other, bits)
+    return list(found.values())
 
 
 def sides_beside(plane, line, bits):

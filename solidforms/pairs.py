@@ -16,6 +16,7 @@ class Core:
         self.numbered = body.numbered
         self._mask = sum(self.bits.values())
         self._rooms = {sides & self._mask: is_held for sides, is_held in body.known.items()}
+        self.filled = [sides for sides, is_held in self._rooms.items() if is_held]
 
     def holds(self, sides):
         """Return whether points with these sides, of these planes and others, lie inside."""

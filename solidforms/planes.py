@@ -5,6 +5,7 @@ from math import gcd
 # The places that the coordinates of a turned point come from: the turns
 # 8 * k to 8 * k + 7 take entry number k.
 TURN_ORDERS = ((0, 1, 2), (0, 2, 1), (1, 0, 2), (1, 2, 0), (2, 0, 1), (2, 1, 0))
+LAST_TURN = 47
 
 
 def box_halves(low, high):

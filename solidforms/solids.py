@@ -1,14 +1,13 @@
 """What a solid is, and the half spaces that it is built of."""
 
 from solidforms.errors import InvalidSolid
-from solidforms.planes import box_halves, moved_half, plane_of, turned_half
+from solidforms.planes import LAST_TURN, box_halves, moved_half, plane_of, turned_half
 
 DEEPEST = 12
 MOST_SOLIDS = 40
 MOST_PLANES = 12
 GREATEST_FACTOR = 3
 GREATEST_NUMBER = 9
-LAST_TURN = 47
 
 # What stands behind each word in a solid, in order.
 PARTS = {

@@ -15,7 +15,7 @@ import warnings
 FOLDER = pathlib.Path(__file__).resolve().parent.parent / "solidforms"
 FILES = sorted(FOLDER.rglob("*.py"))
 
-# What has landed: the names that the interface lists, with their parameters.
+# The functions that the interface lists, with their parameters.
 INTERFACE = {
     "errors": {},
     "solids": {"is_solid": ["value"], "count_planes": ["solid"]},
@@ -29,6 +29,16 @@ INTERFACE = {
         "is_bounded": ["solid"], "volume": ["solid"], "box": ["solid"], "differing_volume": ["solid", "other"],
     },
     "cells": {"count_parts": ["solid"], "count_holes": ["solid"]},
+    "sections": {"section": ["solid", "axis", "level"], "along": ["solid", "point", "axis"]},
+    "convex": {"is_convex": ["solid"], "halves": ["solid"], "needless_parts": ["solid"]},
+    "moves": {"moves": ["solid", "other"]},
+    "desks": {},
+}
+
+# The methods that it lists for the class Desk.
+DESK_METHODS = {
+    "__init__": ["self", "solid"], "add": ["self", "solid"], "cut": ["self", "solid"], "undo": ["self"],
+    "redo": ["self"], "solid": ["self"], "__len__": ["self"], "__eq__": ["self", "other"],
 }
 
 LIBRARY = {
@@ -66,7 +76,7 @@ BARRED_WORDS = set(
     " contextmanager".split())
 
 # The methods with two underscores that the package defines.
-OWN_METHODS = ("__init__",)
+OWN_METHODS = ("__init__", "__eq__", "__len__")
 
 # Some of these LANGUAGE.md allows in narrow places; the package does without them.
 BARRED_STEPS = (
@@ -113,6 +123,16 @@ class TestInterface(unittest.TestCase):
                     self.assertTrue(inspect.isfunction(found))
                     self.assertEqual(found.__module__, module.__name__)
                     self.assertEqual(list(inspect.signature(found).parameters), parameters)
+
+    def test_desks_stand_in_their_file(self):
+        module = importlib.import_module("solidforms.desks")
+        desk = module.Desk
+        self.assertTrue(inspect.isclass(desk))
+        self.assertEqual((desk.__module__, desk.__bases__), (module.__name__, (object,)))
+        for method, parameters in DESK_METHODS.items():
+            with self.subTest(method):
+                self.assertIn(method, vars(desk))
+                self.assertEqual(list(inspect.signature(vars(desk)[method]).parameters), parameters)
 
     def test_init_defines_no_names(self):
         tree = ast.parse((FOLDER / "__init__.py").read_text(encoding="utf-8"))

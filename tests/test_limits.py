@@ -5,8 +5,13 @@ import time
 import unittest
 
 from solidforms.cells import count_holes, count_parts
+from solidforms.convex import halves, is_convex, needless_parts
+from solidforms.desks import Desk
+from solidforms.errors import NotConvex, OnFace
 from solidforms.forms import face_planes, form, inside, is_all, is_blank
 from solidforms.likeness import is_within, parting, same
+from solidforms.moves import moves
+from solidforms.sections import along, section
 from solidforms.solids import count_planes, is_solid
 from solidforms.volumes import box, differing_volume, is_bounded, volume
 from tests.samples import greatest_solid, joined, slow_planes
@@ -75,11 +80,47 @@ class TestLimits(unittest.TestCase):
         self.assertIs(self.timed(same, solid, solid), True)
         self.assertIs(self.timed(is_within, solid, solid), True)
         self.assertIsNone(self.timed(parting, solid, solid))
+        self.check_cuts(solid)
+        self.assertIs(self.timed(is_convex, solid), self.has_halves(solid) or is_blank(solid))
+        for path in self.timed(needless_parts, solid):
+            self.assertIs(same(solid, replaced(solid, path)), True)
         if self.timed(is_bounded, solid):
+            self.assertIn((0, (0, 0, 0)), self.timed(moves, solid, solid))
+            self.assertIn((29, (1, 2, 3)), self.timed(moves, solid, ("moved", (1, 2, 3), ("turned", 29, solid))))
+            self.check_desk(solid)
             self.assertEqual(self.timed(differing_volume, solid, solid), (0, 1))
             self.assertGreater(self.timed(volume, solid)[0], 0)
             low, high = self.timed(box, solid)
             self.assertTrue(all(number(x) < number(y) for x, y in zip(low, high)))
+
+    def check_cuts(self, solid):
+        for axis in range(3):
+            for level in ((1, 7), (-9, 5), (40, 1)):
+                self.assertIs(type(self.timed(section, solid, axis, level)), tuple)
+                point = ((1, 7), (-1, 11), (2, 13))
+                parts = self.timed(along, solid, point, axis)
+                place = (*point[:axis], level, *point[axis + 1:])
+                try:
+                    answer = inside(solid, place)
+                except OnFace:
+                    continue
+                self.assertIs(answer, any(
+                    (low is None or number(low) < number(level)) and (high is None or number(level) < number(high))
+                    for low, high in parts))
+
+    def has_halves(self, solid):
+        try:
+            return isinstance(self.timed(halves, solid), tuple)
+        except NotConvex:
+            return False
+
+    def check_desk(self, solid):
+        desk = self.timed(Desk, solid)
+        if is_solid(("cut", solid, solid)):
+            change = self.timed(desk.cut, solid)
+            self.assertEqual(-number(change), number(volume(solid)))
+            self.assertEqual(number(self.timed(desk.undo)), number(volume(solid)))
+        self.assertIs(self.timed(Desk.__eq__, desk, Desk(solid)), True)
 
     def check_pair(self, solid, other):
         self.assertIs(self.timed(same, solid, other), False)
@@ -200,6 +241,21 @@ class TestManyPlanes(unittest.TestCase):
         self.assertEqual(differing_volume(self.PAIR, other), (4, 1))
         self.assertEqual(differing_volume(other, self.PAIR), (4, 1))
         self.assertEqual(differing_volume(self.PAIR, ("moved", (0, 0, 1), self.PAIR)), (4, 1))
+
+    def test_moves(self):
+        # Two cubes at the ends of a diagonal of a greater one.
+        other = ("turned", 13, ("moved", (1, 0, -1), self.PAIR))
+        rows = moves(self.PAIR, other)
+        self.assertEqual(len(rows), 12)
+        for turn, shift in rows:
+            self.assertIs(same(("moved", shift, ("turned", turn, self.PAIR)), other), True)
+
+
+def replaced(solid, path):
+    """Return a solid with the first solid of a part in place of the part at a path."""
+    if not path:
+        return solid[1]
+    return tuple(replaced(part, path[1:]) if place == path[0] else part for place, part in enumerate(solid))
 
 
 def greatest_chain_without_last(chance):

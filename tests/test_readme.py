@@ -22,7 +22,7 @@ class TestReadme(unittest.TestCase):
                         answers += 1
                 else:
                     exec(code, names)
-        self.assertGreaterEqual(answers, 18)
+        self.assertGreaterEqual(answers, 32)
 
 
 if __name__ == "__main__":
