@@ -13,29 +13,18 @@ BOX_HALVES = 6
 
 
 class Body:
-    """A solid, the bits of its planes, and what has been found out about sides."""
+    """A solid, and the bits of its planes; those that are numbered have the bits given."""
 
     def __init__(self, solid, numbered):
         halves = half_spaces(solid)
         planes = [plane_of(half) for half in halves]
         self.bits = bits_of(sorted(set(planes)), numbered)
-        self.numbered = {**numbered, **self.bits}
         leaves = [_leaf_of(half, self.bits[plane]) for half, plane in zip(halves, planes)]
         self._tree, _ = _tree_of(solid, leaves, 0)
-        self.known = {}
 
     def holds(self, sides):
         """Return whether points with these sides lie inside."""
-        if sides not in self.known:
-            self.known[sides] = _holds(self._tree, sides)
-        return self.known[sides]
-
-
-def kind_of(lesser, greater):
-    """Return the kind of points of a plane, by whether the solid lies on its two sides there."""
-    if lesser == greater:
-        return 0
-    return 1 if greater else 2
+        return _holds(self._tree, sides)
 
 
 def sides_at(bits, point):

@@ -2,7 +2,7 @@
 
 from solidforms.bodies import Body
 from solidforms.errors import NotConvex
-from solidforms.lines import lines_of, rooms_of
+from solidforms.outlines import Outline
 from solidforms.pairs import Core
 from solidforms.solids import PARTS, check_solid
 
@@ -31,21 +31,19 @@ def needless_parts(solid):
     """Return the sorted tuple of the paths of all solids in a solid that are built of two and could,
     each by itself, be replaced by their first one, the whole solid staying the same."""
     check_solid(solid)
-    body = Body(solid, {})
-    rooms = rooms_of(body.bits, lines_of(body.bits))
-    held = [body.holds(sides) for sides in rooms]
+    outline = Outline(Body(solid, {}))
     found = []
     for path in _joining_paths(solid, ()):
         # What is left has no other planes, so that the same rooms tell all of it.
-        less = Body(_with_first(solid, path), body.bits)
-        if [less.holds(sides) for sides in rooms] == held:
+        less = Body(_with_first(solid, path), outline.bits)
+        if all([less.holds(sides) == is_held for sides, is_held in outline.rooms.items()]):
             found.append(path)
     return tuple(sorted(found))
 
 
 def _core_of(solid):
     check_solid(solid)
-    return Core(Body(solid, {}))
+    return Core(Outline(Body(solid, {})))
 
 
 def _half_towards(plane, greater):

@@ -3,7 +3,7 @@
 from solidforms.errors import NothingToUndo, TooMany
 from solidforms.ratios import minus
 from solidforms.solids import check_solid, is_solid
-from solidforms.volumes import bounded_core, volume
+from solidforms.volumes import bounded_outline, volume
 
 
 class Desk:
@@ -20,7 +20,7 @@ class Desk:
     def add(self, solid):
         """Add a solid to that of the desk; return by how much the volume becomes greater."""
         # This raises what is to be raised of a solid without bounds, ahead of all else.
-        bounded_core(solid, {})
+        bounded_outline(solid, {})
         return self._change(("either", self.solid(), solid))
 
     def cut(self, solid):

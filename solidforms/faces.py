@@ -1,44 +1,21 @@
 """The faces of a solid, each with the picture of its plane."""
 
-from solidforms.bodies import Body, kind_of
+from solidforms.bodies import Body
 from solidforms.flats import far_sides, kept_axes, sides_round
-from solidforms.lines import lines_of, sides_about, sides_beside
+from solidforms.lines import sides_beside
+from solidforms.outlines import Outline
 from solidforms.pictures import borders_on, picture_of
 
-
-def faces_of(body):
-    """Return the ascending tuple of the pairs (plane, picture) of all planes with faces."""
-    return faces_along(body, lines_of(body.bits))
-
-
-def faces_along(body, lines):
-    """Return the faces of a body, given the lines that its planes have in common."""
-    borders = {plane: [] for plane in body.bits}
-    for line in lines:
-        rooms = _rooms_along(body, line)
-        if all([row == rooms[0] for row in rooms.values()]):
-            continue
-        for plane in line.through:
-            lefts, rights = [
-                _kinds_of(rooms[sides], rooms[sides + body.bits[plane]])
-                for sides in sides_beside(plane, line, body.bits)
-            ]
-            borders[plane].extend(borders_on(plane, line, lefts, rights))
-    found = []
-    for plane in sorted(body.bits):
-        base = _kind_at(body, plane, far_sides(plane, body.bits))
-        picture = picture_of(base, borders[plane])
-        if picture != (0, ()):
-            found.append((plane, picture))
-    return tuple(found)
+# The kinds of points, by whether the solid lies near them on the lesser and on the greater side.
+KINDS = {(False, False): 0, (False, True): 1, (True, False): 2, (True, True): 0}
 
 
 def form_of(solid):
-    """Return the form of a solid, also of one beyond the limits."""
-    body = Body(solid, {})
-    faces = faces_of(body)
+    """Return the form of a solid."""
+    outline = Outline(Body(solid, {}))
+    faces = _faces_of(outline)
     # The points with the sides 0 are far away, and there are such points whatever the planes.
-    return (faces, faces == () and body.holds(0))
+    return (faces, faces == () and outline.rooms[0])
 
 
 def kinds_round(body, plane, spot):
@@ -48,23 +25,32 @@ def kinds_round(body, plane, spot):
     if a * spot[0] + b * spot[1] + c * spot[2] != d * spot[3]:
         return []
     first, second = kept_axes(plane)
+    bit = body.bits[plane]
     pieces = sides_round(plane, body.bits, (spot[first], spot[second], spot[3]))
-    return [_kind_at(body, plane, sides) for sides in pieces]
+    return [KINDS[body.holds(sides), body.holds(sides + bit)] for sides in pieces]
 
 
-def _kind_at(body, plane, sides):
-    """Return the kind of points of a plane that have these sides of the other planes."""
-    return kind_of(body.holds(sides), body.holds(sides + body.bits[plane]))
+def _faces_of(outline):
+    """Return the ascending tuple of the pairs (plane, picture) of all planes with faces."""
+    borders = {plane: [] for plane in outline.bits}
+    for line, table in outline.edges:
+        for plane in line.through:
+            borders[plane].extend(_borders_at(plane, line, table, outline.bits))
+    found = []
+    for plane in sorted(outline.bits):
+        sides = far_sides(plane, outline.bits)
+        base = KINDS[outline.rooms[sides], outline.rooms[sides + outline.bits[plane]]]
+        if base != 0 or borders[plane]:
+            found.append((plane, picture_of(base, borders[plane])))
+    return tuple(found)
 
 
-def _rooms_along(body, line):
-    """Return a dict of the rooms that meet along a line: by their sides of the planes that the line
-    lies in, whether they lie inside at each stretch."""
-    holds = body.holds
-    return {
-        about: [holds(about + sides) for sides in line.stretches] for about in sides_about(line, body.bits)
-    }
-
-
-def _kinds_of(lesser, greater):
-    return [kind_of(*pair) for pair in zip(lesser, greater)]
+def _borders_at(plane, line, table, bits):
+    """Return the list of the borders on an edge in a plane."""
+    left, right = sides_beside(plane, line, bits)
+    greater_left, greater_right = left + bits[plane], right + bits[plane]
+    if table[left] == table[greater_left] and table[right] == table[greater_right]:
+        return []
+    lefts = [KINDS[pair] for pair in zip(table[left], table[greater_left])]
+    rights = [KINDS[pair] for pair in zip(table[right], table[greater_right])]
+    return borders_on(plane, line, lefts, rights)

@@ -9,6 +9,9 @@ from math import gcd
 
 from solidforms.ratios import ascending, ratio
 
+# The coordinates that are kept in a plane, by the one that is left out.
+KEPT_AXES = ((1, 2), (0, 2), (0, 1))
+
 
 def left_out(plane):
     """Return the number of the coordinate that is left out in a plane."""
@@ -19,8 +22,7 @@ def left_out(plane):
 
 def kept_axes(plane):
     """Return the numbers of the two coordinates that are kept in a plane."""
-    out = left_out(plane)
-    return [axis for axis in range(3) if axis != out]
+    return KEPT_AXES[left_out(plane)]
 
 
 def traces_in(plane, planes):
@@ -54,9 +56,15 @@ def line_form(trace):
     return (trace[0] // divisor, trace[1] // divisor, trace[2] // divisor)
 
 
-def is_greater_to_the_left(trace):
-    """Return whether the greater side of what leaves the trace of a line is to the left of it."""
-    return trace[1] > 0 or (trace[1] == 0 and trace[0] < 0)
+def is_greater_to_the_left(plane, other):
+    """Return whether the greater side of another plane is to the left of its line in a plane."""
+    out = left_out(plane)
+    first, second = KEPT_AXES[out]
+    # The trace tells it; just the signs of p and q are needed.
+    height = plane[out] * other[second] - other[out] * plane[second]
+    if height == 0:
+        height = other[out] * plane[first] - plane[out] * other[first]
+    return height > 0 if plane[out] > 0 else height < 0
 
 
 def far_sides(plane, bits):

@@ -3,6 +3,7 @@
 from solidforms.bodies import Body, sides_at
 from solidforms.errors import OnFace
 from solidforms.faces import form_of, kinds_round
+from solidforms.outlines import Outline, planes_with_faces
 from solidforms.points import check_point
 from solidforms.ratios import over_one_bottom
 from solidforms.solids import check_solid
@@ -16,18 +17,20 @@ def form(solid):
 
 def face_planes(solid):
     """Return the ascending tuple of the planes of the faces of a solid."""
-    faces, _ = form(solid)
-    return tuple([plane for plane, _ in faces])
+    check_solid(solid)
+    return tuple(sorted(planes_with_faces(Outline(Body(solid, {})))))
 
 
 def is_blank(solid):
     """Return whether a solid is the same as no points."""
-    return form(solid) == ((), False)
+    check_solid(solid)
+    return not any(Outline(Body(solid, {})).rooms.values())
 
 
 def is_all(solid):
     """Return whether a solid is the same as all of space."""
-    return form(solid) == ((), True)
+    check_solid(solid)
+    return all(Outline(Body(solid, {})).rooms.values())
 
 
 def inside(solid, point):

@@ -1,84 +1,98 @@
 """Whether solids are the same, lie within each other, and where they part."""
 
 from solidforms.bodies import Body
-from solidforms.faces import faces_along, form_of
 from solidforms.flats import first_places, traces_in
-from solidforms.lines import Line, lines_of, rooms_of
+from solidforms.lines import Line
+from solidforms.outlines import Outline, mixed_stretches, planes_with_faces
 from solidforms.pairs import Core, Difference
-from solidforms.ratios import ascending, is_less, middles, over_one_bottom, ratio
+from solidforms.ratios import ascending, is_less, middles, minus, over_one_bottom, plus, ratio, times
 from solidforms.solids import check_solid
 
 
 def same(solid, other):
     """Return whether two solids differ in points of some planes alone."""
-    check_solid(solid)
-    check_solid(other)
-    return form_of(solid) == form_of(other)
+    first, second = _cores_of(solid, other)
+    return first.bits == second.bits and sorted(first.filled) == sorted(second.filled)
 
 
 def is_within(solid, other):
     """Return whether nothing but points of some planes is in the first solid alone."""
-    check_solid(solid)
-    check_solid(other)
     first, second = _cores_of(solid, other)
-    bits = {**first.bits, **second.bits}
-    rooms = rooms_of(bits, lines_of(bits))
-    return not any([first.holds(sides) and not second.holds(sides) for sides in rooms])
+    rooms = Outline(Difference(first, second)).rooms
+    return not any([differs and first.holds(sides) for sides, differs in rooms.items()])
 
 
 def parting(solid, other):
     """Return the first point round which just one of two solids lies, or None."""
-    check_solid(solid)
-    check_solid(other)
     first, second = _cores_of(solid, other)
     gap = Difference(first, second)
-    lines = lines_of(gap.bits)
-    faces = faces_along(gap, lines)
-    if not faces and not gap.holds(0):
+    outline = Outline(gap)
+    if not any(outline.rooms.values()):
         return None
-    levels = middles(_places_of_x(gap.bits, lines))
-    found = _first_point(gap, levels[0])
+    found = _first_point(gap, _first_level(outline))
     if found is None:
         # Nothing differs up to the least x of the faces of what differs, and there it begins.
-        begin = _least_x(faces)
-        later = [x for x in levels if is_less(begin, x)]
-        found = _first_point(gap, later[0])
+        found = _first_point(gap, _level_above(outline, _least_x(outline)))
     return found
 
 
 def _cores_of(solid, other):
     """Return the cores of two solids, in which planes have the same bits."""
-    first = Core(Body(solid, {}))
-    return first, Core(Body(other, first.numbered))
+    check_solid(solid)
+    check_solid(other)
+    first = Outline(Body(solid, {}))
+    second = Outline(Body(other, first.bits))
+    return Core(first), Core(second)
 
 
-def _places_of_x(planes, lines):
-    """Return the ascending list of the places of x that planes give."""
-    found = [ratio(plane[3], plane[0]) for plane in planes if _has_one_x(plane)]
-    for line in lines:
+def _first_level(outline):
+    """Return the first x at which points are looked for."""
+    places = ascending(_places_above(outline, None))
+    return minus(places[0], (1, 1)) if places else (0, 1)
+
+
+def _level_above(outline, place):
+    """Return the x at which points are looked for next above a place of x."""
+    places = ascending(_places_above(outline, place))
+    return times(plus(place, places[0]), (1, 2)) if places else plus(place, (1, 1))
+
+
+def _places_above(outline, least):
+    """Return a list of places of x above a number, or of all if it is None; of those on each line
+    just the first one."""
+    found = [ratio(plane[3], plane[0]) for plane in outline.bits if plane[1] == 0 and plane[2] == 0]
+    for line in outline.lines:
         if line.way[0] == 0:
-            found.append(line.coordinate(0, 0))
+            found.append(line.coordinates(0)[0])
         else:
-            found.extend([line.coordinate(0, mark) for mark in line.marks])
-    return ascending(found)
+            found.extend([line.coordinates(mark)[0] for mark in _marks_above(line, least)[:1]])
+    return [x for x in found if least is None or is_less(least, x)]
 
 
-def _has_one_x(plane):
-    return plane[1] == 0 and plane[2] == 0
+def _marks_above(line, least):
+    """Return the list of the marks of a line at an x above a number, by their x."""
+    step = line.way[0]
+    marks = line.marks if step > 0 else line.marks[::-1]
+    if least is None:
+        return marks
+    top, bottom = least
+    start = line.scale * (top * line.spot[3] - bottom * line.spot[0])
+    return [mark for mark in marks if mark * step * bottom > start]
 
 
-def _least_x(faces):
-    """Return the least x of the faces of something that has points at no x below it."""
-    found = []
-    for plane, (_, borders) in faces:
-        if _has_one_x(plane):
-            found.append(ratio(plane[3], plane[0]))
-            continue
-        for (p, q, r), start, _, _, _ in borders:
-            if q == 0:
-                found.append(ratio(-r, p))
-            elif start is not None:
-                found.append(start[0])
+def _least_x(outline):
+    """Return the least x of the faces of something that has no points at the least x of all."""
+    # Without edges all planes are parallel to each other: each of them has one x.
+    found = [] if outline.edges else [ratio(plane[3], plane[0]) for plane in planes_with_faces(outline)]
+    for line, table in outline.edges:
+        mixed = mixed_stretches(table)
+        # The marks stand between the stretches.
+        if line.way[0] > 0:
+            found.append(line.coordinates(line.marks[mixed[0] - 1])[0])
+        elif line.way[0] < 0:
+            found.append(line.coordinates(line.marks[mixed[-1]])[0])
+        else:
+            found.append(line.coordinates(0)[0])
     return ascending(found)[0]
 
 
@@ -89,6 +103,6 @@ def _first_point(gap, x):
         line = Line(over_one_bottom((x, y, (0, 1))), (0, 0, 1), gap.bits)
         held = [gap.holds(sides) for sides in line.stretches]
         if any(held):
-            levels = middles([line.coordinate(2, mark) for mark in line.marks])
+            levels = middles([line.coordinates(mark)[2] for mark in line.marks])
             return (x, y, levels[held.index(True)])
     return None

@@ -2,7 +2,7 @@
 
 from math import lcm
 
-from solidforms.flats import far_sides, is_greater_to_the_left, is_line, line_form, traces_in
+from solidforms.flats import far_sides, is_greater_to_the_left, is_line, left_out, line_form, traces_in
 from solidforms.planes import cross
 from solidforms.ratios import ratio
 
@@ -12,45 +12,46 @@ class Line:
 
     It goes through a spot, a point (x, y, z, bottom), in a way (u, v, w). `through` lists the
     planes that it lies in. The other ones cross it at the marks: whole numbers that ascend along
-    the way. `stretches` lists the sides of the points below the first mark, between one and the
-    next one, and above the last one; of the planes that the line lies in they tell nothing.
+    the way, of which `scale` ones lead from (x, y, z) / bottom to (x + u, y + v, z + w) / bottom.
+    `stretches` lists the sides of the points below the first mark, between one and the next one,
+    and above the last one; of the planes that the line lies in they tell nothing.
     """
 
     def __init__(self, spot, way, bits):
         self.spot = spot
         self.way = way
         self.through, crossed, sides = _met(spot, way, bits)
-        self._scale = 1
+        self.scale = 1
         for _, slope, _ in crossed:
-            self._scale = lcm(self._scale, slope)
+            self.scale = lcm(self.scale, slope)
         changes = {}
         for height, slope, bit in crossed:
-            mark = -height * (self._scale // slope)
+            mark = -height * (self.scale // slope)
             changes[mark] = changes.get(mark, 0) + bit
         self.marks = sorted(changes)
         self.stretches = [sides]
         for mark in self.marks:
             sides ^= changes[mark]
             self.stretches.append(sides)
-
-    def coordinate(self, axis, mark):
-        """Return a coordinate of the point at a mark, a fraction."""
-        return ratio(self.spot[axis] * self._scale + mark * self.way[axis], self.spot[3] * self._scale)
+        self._told = {}
 
     def point(self, mark):
         """Return the point at a mark."""
-        tops = [start * self._scale + mark * step for start, step in zip(self.spot, self.way)]
-        return (*tops, self.spot[3] * self._scale)
+        tops = [start * self.scale + mark * step for start, step in zip(self.spot, self.way)]
+        return (*tops, self.spot[3] * self.scale)
+
+    def coordinates(self, mark):
+        """Return the tuple of the coordinates of the point at a mark, as fractions."""
+        if mark not in self._told:
+            x, y, z, bottom = self.point(mark)
+            self._told[mark] = (ratio(x, bottom), ratio(y, bottom), ratio(z, bottom))
+        return self._told[mark]
 
 
 def common_line(first, second, bits):
     """Return the line that two planes have in common, None if they do not cross."""
     way = cross(first, second)
-    if way == (0, 0, 0):
-        return None
-    # Of all points of both planes, the spot is the one next to 0.
-    tops = [first[3] * x + second[3] * y for x, y in zip(cross(second, way), cross(way, first))]
-    return Line((*tops, way[0] * way[0] + way[1] * way[1] + way[2] * way[2]), way, bits)
+    return None if way == (0, 0, 0) else Line(_common_point(first, second, way), way, bits)
 
 
 def lines_of(bits):
@@ -83,10 +84,11 @@ def lines_in(plane, bits):
 def sides_beside(plane, line, bits):
     """Return the sides of the points of a plane next to the left and to the right of a line in it,
     of the other planes that the line lies in."""
-    others = [other for other in line.through if other != plane]
     left = right = 0
-    for other, trace in zip(others, traces_in(plane, others)):
-        if is_greater_to_the_left(trace):
+    for other in line.through:
+        if other == plane:
+            continue
+        if is_greater_to_the_left(plane, other):
             left += bits[other]
         else:
             right += bits[other]
@@ -107,20 +109,24 @@ def sides_about(line, bits):
     return list(found)
 
 
-def rooms_of(bits, lines):
-    """Return the list of the sides of all rooms into which planes cut space."""
-    # There are points with the sides 0 far away, whatever the planes.
+def rooms_between(bits):
+    """Return the list of the sides of all rooms between planes that are parallel to each other."""
+    # There are points with the sides 0 far away.
     found = {0: True}
-    for line in lines:
-        for about in sides_about(line, bits):
-            found.update({sides + about: True for sides in line.stretches})
-    if not lines:
-        # All planes are parallel to each other.
-        for plane, bit in bits.items():
-            sides = far_sides(plane, bits)
-            found[sides] = True
-            found[sides + bit] = True
+    for plane, bit in bits.items():
+        found[far_sides(plane, bits) + bit] = True
     return list(found)
+
+
+def _common_point(first, second, way):
+    """Return the point of the line in this way, of two planes, that has one coordinate 0."""
+    out = left_out(way)
+    # These three are x, y and z, or as they follow each other in a round.
+    after, ahead = (out + 1) % 3, (out + 2) % 3
+    point = [0, 0, 0, way[out]]
+    point[after] = first[3] * second[ahead] - second[3] * first[ahead]
+    point[ahead] = first[after] * second[3] - second[after] * first[3]
+    return tuple(point) if way[out] > 0 else tuple([-number for number in point])
 
 
 def _met(spot, way, bits):

@@ -2,19 +2,21 @@
 
 from solidforms.errors import Blank
 from solidforms.planes import LAST_TURN, moved_half, plane_of, turned_half, turned_triple
+from solidforms.pairs import Core
 from solidforms.ratios import over_one_bottom
-from solidforms.volumes import bounded_core, box_of
+from solidforms.volumes import bounded_outline, box_round
 
 
 def moves(solid, other):
     """Return the ascending tuple of all pairs (number, shift) of a turn and a whole shift that lead
     a solid to another one."""
-    core = bounded_core(solid, {})
-    goal = bounded_core(other, {})
-    if not core.faces or not goal.faces:
+    outline = bounded_outline(solid, {})
+    other_outline = bounded_outline(other, {})
+    if not outline.edges or not other_outline.edges:
         raise Blank("one of the solids is the same as no points")
-    low, high = box_of(core.faces)
-    goal_low, goal_high = box_of(goal.faces)
+    low, high = box_round(outline)
+    goal_low, goal_high = box_round(other_outline)
+    core, goal = Core(outline), Core(other_outline)
     *corners, bottom = over_one_bottom((*low, *high, *goal_low, *goal_high))
     found = []
     for number in range(LAST_TURN + 1):

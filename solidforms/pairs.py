@@ -1,6 +1,6 @@
 """Solids told by the planes of their faces alone, and pairs of such."""
 
-from solidforms.faces import faces_of
+from solidforms.outlines import planes_with_faces
 
 
 class Core:
@@ -10,12 +10,10 @@ class Core:
     between the planes of the faces whether it lies inside: some room between all planes lies in it.
     """
 
-    def __init__(self, body):
-        self.faces = faces_of(body)
-        self.bits = {plane: body.bits[plane] for plane, _ in self.faces}
-        self.numbered = body.numbered
+    def __init__(self, outline):
+        self.bits = {plane: outline.bits[plane] for plane in planes_with_faces(outline)}
         self._mask = sum(self.bits.values())
-        self._rooms = {sides & self._mask: is_held for sides, is_held in body.known.items()}
+        self._rooms = {sides & self._mask: is_held for sides, is_held in outline.rooms.items()}
         self.filled = [sides for sides, is_held in self._rooms.items() if is_held]
 
     def holds(self, sides):

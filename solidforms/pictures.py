@@ -6,7 +6,7 @@ from solidforms.flats import kept_axes, line_form
 def borders_on(plane, line, lefts, rights):
     """Return the list of the borders on a line in a plane, by what stands to the left and to the
     right of its stretches."""
-    runs = [run for run in runs_of(list(zip(lefts, rights))) if run[2][0] != run[2][1]]
+    runs = runs_of(lefts, rights)
     if not runs:
         return []
     first, second = kept_axes(plane)
@@ -15,11 +15,10 @@ def borders_on(plane, line, lefts, rights):
     # Borders are told as somebody meets them who goes to greater u, or, where u stays, to greater v.
     goes_on = (line.way[first], line.way[second]) > (0, 0)
     borders = []
-    for begin, end, (left, right) in runs if goes_on else runs[::-1]:
-        marks = (ends[begin], ends[end]) if goes_on else (ends[end], ends[begin])
-        points = [_told(line, mark, first, second) for mark in marks]
-        borders.append((form, *points, left, right))
-    return borders
+    for begin, end, left, right in runs:
+        start, stop = (ends[begin], ends[end]) if goes_on else (ends[end], ends[begin])
+        borders.append((form, _told(line, start, first, second), _told(line, stop, first, second), left, right))
+    return borders if goes_on else borders[::-1]
 
 
 def picture_of(base, borders):
@@ -27,12 +26,18 @@ def picture_of(base, borders):
     return (base, tuple(sorted(borders, key=lambda border: border[0])))
 
 
-def runs_of(values):
-    """Return the list of the longest runs of equal values, as triples (place of the first one,
-    place behind the last one, value)."""
-    begins = [place for place, value in enumerate(values) if place == 0 or value != values[place - 1]]
-    ends = [*begins[1:], len(values)]
-    return [(begin, end, values[begin]) for begin, end in zip(begins, ends)]
+def runs_of(lefts, rights):
+    """Return the list of the longest runs of stretches with one left and one right that are unlike
+    each other, as tuples (place of the first stretch, place behind the last one, left, right)."""
+    runs = []
+    for place, (left, right) in enumerate(zip(lefts, rights)):
+        if left == right:
+            continue
+        begin = place
+        if runs and runs[-1][1:] == (place, left, right):
+            begin = runs.pop()[0]
+        runs.append((begin, place + 1, left, right))
+    return runs
 
 
 def _form_of(line, first, second):
@@ -46,4 +51,5 @@ def _told(line, mark, first, second):
     """Return two coordinates of the point at a mark of a line, None if there is no mark."""
     if mark is None:
         return None
-    return (line.coordinate(first, mark), line.coordinate(second, mark))
+    point = line.coordinates(mark)
+    return (point[first], point[second])

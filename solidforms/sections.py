@@ -2,9 +2,10 @@
 
 from solidforms.bodies import Body
 from solidforms.errors import OnFace
-from solidforms.faces import faces_of, kinds_round
+from solidforms.faces import kinds_round
 from solidforms.flats import far_sides
 from solidforms.lines import Line, lines_in, sides_beside
+from solidforms.outlines import Outline, planes_with_faces
 from solidforms.pictures import borders_on, picture_of, runs_of
 from solidforms.points import check_axis, check_level, check_point
 from solidforms.ratios import over_one_bottom
@@ -47,8 +48,9 @@ def along(solid, point, axis):
     # The planes that the line lies in have no faces, and part nothing: what lies next to it, on the
     # lesser side of all of them, lies all round it.
     held = [body.holds(sides) for sides in line.stretches]
-    ends = [None, *[line.coordinate(axis, mark) for mark in line.marks], None]
-    return tuple([(ends[begin], ends[end]) for begin, end, is_held in runs_of(held) if is_held])
+    ends = [None, *[line.coordinates(mark)[axis] for mark in line.marks], None]
+    nothing = [False for _ in held]
+    return tuple([(ends[begin], ends[end]) for begin, end, _, _ in runs_of(held, nothing)])
 
 
 def _way_of(axis):
@@ -61,7 +63,7 @@ def _has_face(body, planes):
     own = [plane for plane in planes if plane in body.bits]
     if not own:
         return False
-    return any([plane in own for plane, _ in faces_of(body)])
+    return any([plane in own for plane in planes_with_faces(Outline(body))])
 
 
 def _is_on_border(body, spot):
