@@ -31,7 +31,7 @@ class Line:
         self.marks = sorted(changes)
         self.stretches = [sides]
         for mark in self.marks:
-            sides ^= changes[mark]
+            sides = sides ^ changes[mark]
             self.stretches.append(sides)
         self._told = {}
 

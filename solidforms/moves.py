@@ -40,15 +40,15 @@ def _shift_after(number, corners, bottom):
 def _leads(number, shift, core, goal):
     """Return whether a turn and a shift lead one solid to another one."""
     changes = []
-    for plane, bit in core.bits.items():
+    for plane, start in core.bits.items():
         # The half space on the lesser side of the plane tells which side is led to which.
         half = moved_half(shift, turned_half(number, plane))
         led = plane_of(half)
         if led not in goal.bits:
             return False
-        changes.append((bit, goal.bits[led], half[:3] < (0, 0, 0)))
+        changes.append((start, goal.bits[led], half[:3] < (0, 0, 0)))
     rooms = [
-        sum([goal_bit for bit, goal_bit, swapped in changes if ((sides & bit) != 0) != swapped])
+        sum([end for bit, end, swapped in changes if ((sides & bit) != 0) != swapped])
         for sides in core.filled
     ]
     return len(changes) == len(goal.bits) and sorted(rooms) == sorted(goal.filled)

@@ -149,6 +149,17 @@ class TestParting(LikenessCase):
         self.assert_parted(cone, NOTHING, (1, 1), (-1, 2), (1, 4))
         self.assert_parted(("moved", (2, 0, 0), cone), NOTHING, (3, 1), (-1, 2), (1, 4))
 
+    def test_a_solid_that_begins_again_behind_a_gap(self):
+        # All edges of the cone lead from its first point, at x 0, to greater x; there it is cut in two.
+        cone = ("both", ("half", -1, 3, -1, 0), ("both", ("half", 2, 1, 1, 0), ("half", -3, -3, -1, 0)))
+        for solid in (cone, ("turned", 1, cone), ("turned", 2, cone), ("turned", 3, cone), ("turned", 8, cone)):
+            for begin, end, x in ((1, 2, (1, 2)), (0, 1, (2, 1)), (-1, 1, (2, 1)), (2, 5, (1, 1))):
+                parts = ("either", upright(0, begin), ("not", upright(0, end)))
+                cut = ("both", solid, parts)
+                point = slow_parting(cut, NOTHING)
+                self.assertEqual(point[0], x)
+                self.assert_parted(cut, NOTHING, *point)
+
     def test_places_of_y_and_z(self):
         self.assert_parted(B, ("cut", B, CUBE), (1, 2), (1, 2), (1, 2))
         self.assert_parted(B, ("cut", B, ("moved", (0, 1, 2), CUBE)), (1, 2), (3, 2), (5, 2))

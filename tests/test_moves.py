@@ -27,7 +27,7 @@ EVEN_ORDERS = (0, 3, 4)
 
 
 # Points off all planes of small numbers.
-FEW = list(product(*[[Fraction(k, p) for k in range(1, 2 * p, p // 2)] for p in (23, 29, 31)]))
+FEW = list(product(*[[Fraction(k, p) for k in (1, p // 2, p + 2, 2 * p - 3)] for p in (23, 29, 31)]))
 
 
 def is_mirroring(turn):

@@ -459,7 +459,8 @@ class TestAlongAgainstPoints(unittest.TestCase):
         for _ in range(60):
             solid = packed_solid(chance, 8)
             axis = chance.randint(0, 2)
-            point = tuple(Fraction(chance.randint(-900, 900), p) for p in (331, 337, 347))
+            # With bottoms that have nothing in common, the line lies in no plane of small numbers.
+            point = tuple(chance.randint(-3, 2) + Fraction(chance.randint(1, p - 1), p) for p in (331, 337, 347))
             parts = along(solid, told_point(point), axis)
             for place in (Fraction(k, 7) for k in range(-20, 21)):
                 spot = (*point[:axis], place, *point[axis + 1:])
